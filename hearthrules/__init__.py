@@ -1,0 +1,1 @@
+"""Hearthrules: a house's rules, written, run and held against one another."""
