@@ -49,6 +49,21 @@ def share_a_name(some, others):
     return any([name in taken for name in names_of(others)])
 
 
+def can_be_outer(things):
+    """Tell whether THINGS, of any kind, can be the outer things of a house."""
+    return are_things(things, 0, MOST_OUTER) and count_ways(things) <= MOST_WAYS
+
+
+def can_be_inner(outer, things):
+    """Tell whether THINGS, of any kind, can be the inner things of a house with these outer ones."""
+    return are_things(things, 1, MOST_INNER) and not share_a_name(outer, things)
+
+
+def can_be_hours(hours):
+    """Tell whether HOURS, of any kind, can be the hours of a house."""
+    return is_whole(hours, 1, MOST_HOURS)
+
+
 def thing_rows(word, things):
     """Tell the rows of a house's text for some of its things."""
     return [" ".join([word, name, *values]) for name, values in things]
@@ -58,11 +73,11 @@ class House:
     """A house: its outer things, its inner ones, and how many hours it has."""
 
     def __init__(self, outer, inner, hours=4):
-        if not are_things(outer, 0, MOST_OUTER) or count_ways(outer) > MOST_WAYS:
+        if not can_be_outer(outer):
             raise NoHouse("outer")
-        if not are_things(inner, 1, MOST_INNER) or share_a_name(outer, inner):
+        if not can_be_inner(outer, inner):
             raise NoHouse("inner")
-        if not is_whole(hours, 1, MOST_HOURS):
+        if not can_be_hours(hours):
             raise NoHouse("hours")
         self.outer = outer
         self.inner = inner
@@ -105,3 +120,25 @@ def all_outer(house):
 def first_values(house):
     """Tell the inner things' values at the beginning."""
     return tuple([thing[1][0] for thing in house.inner])
+
+
+def has_value(things, name, value):
+    """Tell whether one of these things has this name, and this value among its own; both of any kind."""
+    if not is_name(name) or not is_name(value):
+        return False
+    return any([name == thing and value in values for thing, values in things])
+
+
+def gives_each(things, row):
+    """Tell whether ROW, of any kind, is a tuple of one value for each of these things, in their order."""
+    if not is_row(row, len(things), len(things)):
+        return False
+    return all([is_name(value) and value in thing[1] for thing, value in zip(things, row)])
+
+
+def are_inner_names(house, names):
+    """Tell whether NAMES, of any kind, are a rising tuple of names of inner things."""
+    inner = names_of(house.inner)
+    if not isinstance(names, tuple) or not all([is_name(name) and name in inner for name in names]):
+        return False
+    return is_rising(names)

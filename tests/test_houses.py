@@ -3,7 +3,7 @@ import unittest
 from itertools import product
 
 from hearthrules.errors import HearthError, LostError, NoHouse, NoThing
-from hearthrules.houses import House, all_outer, first_values
+from hearthrules.houses import House, all_outer, are_inner_names, first_values, gives_each, has_value
 from oddities import AlikeToAll, Stubborn, odd_things
 
 TWO = ("on", "off")
@@ -263,6 +263,32 @@ class FirstValuesTest(Case):
         self.assertEqual(first_values(House(OUTER, INNER)), ("low", "off", "on"))
         self.assertEqual(first_values(House((), (("lamp", ("off", "on")),))), ("off",))
         self.assertIsInstance(first_values(House(OUTER, INNER)), tuple)
+
+
+class OfThingsTest(Case):
+    def test_a_thing_with_a_value(self):
+        self.assertIs(has_value(INNER, "fan", "mid"), True)
+        self.assertIs(has_value(OUTER + INNER, "rain", "yes"), True)
+        for name, value in (("fan", "on"), ("rain", "yes"), ("mid", "fan"), ("zoo", "on"), ("fan", "fan")):
+            self.assertIs(has_value(INNER, name, value), False)
+        for thing in odd_things():
+            self.assertIs(has_value(INNER, thing, "on"), False)
+            self.assertIs(has_value(INNER, "lamp", thing), False)
+
+    def test_one_value_for_each_thing(self):
+        self.assertIs(gives_each(INNER, ("mid", "on", "off")), True)
+        self.assertIs(gives_each((), ()), True)
+        for row in [("mid", "on"), ("mid", "on", "off", "on"), ["mid", "on", "off"], ("on", "mid", "off"), (),
+                    ("mid", "on", AlikeToAll()), (Stubborn(), "on", "off")] + odd_things():
+            self.assertIs(gives_each(INNER, row), False)
+
+    def test_rising_names_of_inner_things(self):
+        house = House(OUTER, INNER)
+        for names in ((), ("heat",), ("fan", "lamp"), ("fan", "heat", "lamp")):
+            self.assertIs(are_inner_names(house, names), True)
+        for names in (("rain",), ("lamp", "fan"), ("fan", "fan"), ["fan"], "fan", None, ("fan", None), (Stubborn(),),
+                      (AlikeToAll(),), ("zoo",), ("fan", "zoo")):
+            self.assertIs(are_inner_names(house, names), False)
 
 
 if __name__ == "__main__":

@@ -12,8 +12,18 @@ INTERFACE = {
                "NoChange", "NoPair", "TooMany", "NoNumber", "NoRow", "LostError", "NoThing", "NoName"),
     "names": ("is_name",),
     "houses": ("House", "all_outer", "first_values"),
+    "sayings": ("Saying",),
+    "rules": ("Rule", "read_rule"),
+    "books": ("Book", "read_book"),
+    "moments": ("Moment", "first_standing", "moment"),
 }
-METHODS = {"House": ("__init__", "__len__", "__eq__", "__repr__", "__str__", "values_of")}
+METHODS = {
+    "House": ("__init__", "__len__", "__eq__", "__repr__", "__str__", "values_of"),
+    "Saying": ("__init__", "__len__", "__eq__", "__repr__", "__str__", "so", "things"),
+    "Rule": ("__init__", "__eq__", "__repr__", "__str__"),
+    "Book": ("__init__", "__len__", "__eq__", "__repr__", "__str__", "named", "with_rule", "without", "size"),
+    "Moment": ("__init__", "__len__", "__eq__", "__repr__"),
+}
 BUILTINS = set(
     "len range enumerate zip min max sum abs sorted reversed int str bool bytes list tuple dict set frozenset "
     "isinstance ord repr any all divmod iter next super property staticmethod classmethod Exception ValueError "
@@ -135,6 +145,16 @@ class NamesTest(unittest.TestCase):
                     names += [target.id for target in node.targets]
             self.assertEqual(len(names), len(set(names)), path)
 
+    def test_no_variable_has_the_name_of_a_class_or_an_import_of_its_file(self):
+        for path, tree in trees():
+            taken = {node.name for node in tree.body if isinstance(node, ast.ClassDef)}
+            taken |= {name.name for node in tree.body if isinstance(node, ast.ImportFrom) for name in node.names}
+            for node in ast.walk(tree):
+                if isinstance(node, ast.arg):
+                    self.assertNotIn(node.arg, taken, path)
+                elif isinstance(node, ast.Name) and isinstance(node.ctx, ast.Store):
+                    self.assertNotIn(node.id, taken, path)
+
     def test_only_listed_builtins_are_read(self):
         for path, tree in trees():
             for node in ast.walk(tree):
@@ -176,6 +196,24 @@ class CallsTest(unittest.TestCase):
                     last = node.body[-1]
                     self.assertTrue(isinstance(last, ast.Return) and isinstance(last.value, ast.Call), path)
                     self.assertEqual(last.value.func.id, "len", path)
+
+    def test_texts_end_in_a_return_of_a_text(self):
+        for path, tree in trees():
+            for node in ast.walk(tree):
+                if isinstance(node, ast.FunctionDef) and node.name in ("__repr__", "__str__"):
+                    self.assertIsInstance(node.body[-1], ast.Return, path)
+                    self.assertIsInstance(node.body[-1].value, (ast.JoinedStr, ast.Call), path)
+                if isinstance(node, ast.JoinedStr):
+                    self.assertEqual(node.lineno, node.end_lineno, path)
+
+    def test_handlers_name_errors_of_the_package(self):
+        own = INTERFACE["errors"]
+        for path, tree in trees():
+            for node in ast.walk(tree):
+                if isinstance(node, ast.ExceptHandler):
+                    kinds = node.type.elts if isinstance(node.type, ast.Tuple) else [node.type]
+                    for kind in kinds:
+                        self.assertIn(kind.id, own, path)
 
     def test_raise_creates_its_error_on_the_spot(self):
         for path, tree in trees():

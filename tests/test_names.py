@@ -1,6 +1,6 @@
 import unittest
 
-from hearthrules.names import is_name, is_rising, is_row, is_whole
+from hearthrules.names import are_pairs, is_name, is_rising, is_row, is_whole, read_number
 from oddities import odd_things
 
 SIGNS = [chr(number) for number in [10] + list(range(32, 127))]
@@ -67,6 +67,20 @@ class FormTest(unittest.TestCase):
             self.assertIs(is_rising(parts), True)
         for parts in (["a", "a"], ["b", "a"], ["a", "c", "b"], ["a", "b", "b"]):
             self.assertIs(is_rising(parts), False)
+
+    def test_pairs_of_names_rising_by_unlike_first_ones(self):
+        pairs = (("a", "z"), ("b", "y"), ("c", "y"))
+        self.assertEqual([many for many in range(4) if are_pairs(pairs[:many], 1, 2)], [1, 2])
+        self.assertIs(are_pairs((), 0, 4), True)
+        for thing in [pairs[::-1], (("a", "x"), ("a", "y")), list(pairs), (["a", "z"],), (("a",),), (("a", "z", "z"),),
+                      (("a", "is"),), (("is", "a"),), ("ab",), (("a", None),)] + odd_things():
+            self.assertIs(are_pairs(thing, 0, 4), False)
+
+    def test_numbers_of_one_or_two_figures(self):
+        for number in range(100):
+            self.assertEqual(read_number(str(number)), number)
+        for word in ("", "00", "01", "09", "100", "-1", "+1", " 1", "1 ", "1\n", "a", "1a", "1_1", "1."):
+            self.assertIsNone(read_number(word))
 
 
 if __name__ == "__main__":
