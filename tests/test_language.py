@@ -16,6 +16,9 @@ INTERFACE = {
     "rules": ("Rule", "read_rule"),
     "books": ("Book", "read_book"),
     "moments": ("Moment", "first_standing", "moment"),
+    "courses": ("Course", "plain"),
+    "machines": ("Machine", "made"),
+    "checker": ("holds",),
 }
 METHODS = {
     "House": ("__init__", "__len__", "__eq__", "__repr__", "__str__", "values_of"),
@@ -23,6 +26,8 @@ METHODS = {
     "Rule": ("__init__", "__eq__", "__repr__", "__str__"),
     "Book": ("__init__", "__len__", "__eq__", "__repr__", "__str__", "named", "with_rule", "without", "size"),
     "Moment": ("__init__", "__len__", "__eq__", "__repr__"),
+    "Course": ("__init__", "__len__", "__eq__", "__repr__"),
+    "Machine": ("__init__", "__len__", "__eq__", "__repr__", "walk", "least"),
 }
 BUILTINS = set(
     "len range enumerate zip min max sum abs sorted reversed int str bool bytes list tuple dict set frozenset "
