@@ -80,6 +80,18 @@ class Book:
         return many
 
 
+def book_of(book, names):
+    """Tell the book of those rules alone that have these names."""
+    return Book(book.house, tuple([book.named(name) for name in names]))
+
+
+def sets_of(names, many):
+    """Tell all the rising tuples of so many of these rising names, rising."""
+    if many == 0:
+        return [()]
+    return [(names[at], *rest) for at in range(len(names)) for rest in sets_of(names[at + 1:], many - 1)]
+
+
 def read_thing_row(row):
     """Tell the thing that a row with a blank behind its first word writes, or what no house has."""
     words = row.split(" ")

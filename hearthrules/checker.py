@@ -1,6 +1,6 @@
 """The checker: whether a paper shows that a claim is so. It rests on houses, sayings, books, moments and courses."""
 
-from hearthrules.books import Book
+from hearthrules.books import Book, book_of, sets_of
 from hearthrules.courses import Course
 from hearthrules.houses import all_outer
 from hearthrules.moments import first_standing, is_standing, moment, values_by_name
@@ -143,18 +143,6 @@ def shows_alike(book, other, paper):
 def shows_parted(book, other, paper):
     """Tell whether PAPER, of any kind, is a course whose last moments' ends aren't alike."""
     return is_plain_course(book.house, paper) and last_moment(book, paper).ends != last_moment(other, paper).ends
-
-
-def book_of(book, names):
-    """Tell the book of those rules alone that have these names."""
-    return Book(book.house, tuple([book.named(name) for name in names]))
-
-
-def sets_of(names, many):
-    """Tell all the rising tuples of so many of these rising names, rising."""
-    if many == 0:
-        return [()]
-    return [(names[at], *rest) for at in range(len(names)) for rest in sets_of(names[at + 1:], many - 1)]
 
 
 def is_set_parted(book, names, row):

@@ -66,10 +66,15 @@ class Machine:
         return Machine(self.house, tuple(table), tuple([self.standings[at] for at in leaders]))
 
 
-def made(book):
-    """Tell the machine of a book."""
+def refuse_many(book):
+    """Refuse a book of too many standings."""
     if book.size() > MOST_STANDINGS:
         raise TooMany(book.size(), MOST_STANDINGS)
+
+
+def made(book):
+    """Tell the machine of a book."""
+    refuse_many(book)
     standings = [first_standing(book)]
     numbers = {standings[0]: 0}
     table = []

@@ -18,6 +18,10 @@ INTERFACE = {
     "moments": ("Moment", "first_standing", "moment"),
     "courses": ("Course", "plain"),
     "machines": ("Machine", "made"),
+    "comes": ("clash", "restless", "doing", "silent"),
+    "wishes": ("always",),
+    "pairs": ("parted",),
+    "few": ("fewest",),
     "checker": ("holds",),
 }
 METHODS = {
@@ -193,6 +197,14 @@ class CallsTest(unittest.TestCase):
                 if isinstance(node, ast.Call) and isinstance(node.func, ast.Name) and node.func.id in TAKE_LISTS:
                     for part in node.args:
                         self.assertNotIsInstance(part, ast.GeneratorExp, (path, node.lineno))
+
+    def test_what_is_gone_through_at_once_is_not_stored(self):
+        barred = ("zip", "enumerate", "reversed", "range", "items", "keys", "values")
+        for path, tree in trees():
+            for node in ast.walk(tree):
+                if isinstance(node, (ast.Assign, ast.Return)) and isinstance(node.value, ast.Call):
+                    called = node.value.func
+                    self.assertNotIn(called.id if isinstance(called, ast.Name) else called.attr, barred, (path, node.lineno))
 
     def test_len_returns_a_len(self):
         for path, tree in trees():
