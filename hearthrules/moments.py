@@ -89,9 +89,8 @@ def go_round(house, ends, due, stuck):
     return sets, clashes
 
 
-def ends_behind(house, ends, sets):
-    """Tell the inner values behind a round that sets these."""
-    aims = {thing: value for thing, value, names in sets}
+def values_set(house, ends, aims):
+    """Tell the inner values when things are set, AIMS being a dict from their names to values."""
     return tuple([aims.get(thing[0], now) for thing, now in zip(house.inner, ends)])
 
 
@@ -118,7 +117,7 @@ def go_through(book, standing, outer, stuck):
         sets, fresh = go_round(book.house, ends, due, stuck)
         doings += [(len(seen) - 1, *row) for row in sets]
         clashes += fresh
-        ends = ends_behind(book.house, ends, sets)
+        ends = values_set(book.house, ends, {thing: value for thing, value, names in sets})
     return Moment(hour, outer, tuple(doings), tuple(sorted(set(clashes))), sets != [], ends,
                   standing_behind(book, standing, outer, ends))
 

@@ -1,6 +1,6 @@
 """Plain second readings, and books made by chance, for the tests of what comes of a book."""
 from hearthrules.books import Book
-from hearthrules.courses import plain
+from hearthrules.courses import Course, plain
 from hearthrules.houses import House, all_outer
 from hearthrules.moments import first_standing, moment
 from hearthrules.rules import Rule, read_rule
@@ -92,3 +92,15 @@ def some_book(chance, house, most=5):
         book = Book(house, tuple(some_rule(chance, house, name) for name in "pqrstu"[:chance.randrange(most + 1)]))
         if book.size() <= 400:
             return book
+
+
+def some_course(chance, house, many):
+    """A course of MANY rows with hands, things let go and failing ones."""
+    names = [name for name, values in house.inner]
+    rows = []
+    for number in range(many):
+        hands = tuple((name, chance.choice(values)) for name, values in house.inner if chance.randrange(5) == 0)
+        freed = tuple(name for name in names if name not in dict(hands) and chance.randrange(4) == 0)
+        failing = tuple(name for name in names if chance.randrange(5) == 0)
+        rows.append((chance.choice(all_outer(house)), hands, freed, failing))
+    return Course(house, tuple(rows))

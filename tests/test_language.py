@@ -22,6 +22,10 @@ INTERFACE = {
     "wishes": ("always",),
     "pairs": ("parted",),
     "few": ("fewest",),
+    "runs": ("run", "moved"),
+    "logs": ("log_of", "read_log", "is_log"),
+    "papers": ("paper_clash", "paper_rests", "paper_doing", "paper_always", "paper_alike", "paper_fewest"),
+    "desk": ("Desk",),
     "checker": ("holds",),
 }
 METHODS = {
@@ -32,6 +36,7 @@ METHODS = {
     "Moment": ("__init__", "__len__", "__eq__", "__repr__"),
     "Course": ("__init__", "__len__", "__eq__", "__repr__"),
     "Machine": ("__init__", "__len__", "__eq__", "__repr__", "walk", "least"),
+    "Desk": ("__init__", "say"),
 }
 BUILTINS = set(
     "len range enumerate zip min max sum abs sorted reversed int str bool bytes list tuple dict set frozenset "
