@@ -118,6 +118,15 @@ class LogOfTest(Case):
         self.assertEqual(len(run(book, plain(HOUSE, (YES,)))[0].clashes), 3)
         self.assert_log(book, plain(HOUSE, (YES,)), "0 yes | lamp on by d | clash fan heat")
 
+    def test_things_over_which_rules_clash_stand_in_order(self):
+        # Many names, so that no other order, such as that of a set, can be the right one for all of them by luck.
+        for first in "abcdefghijklmnopqrst":
+            names = tuple(first + last for last in "bdmz")
+            house = House((), tuple((name, ("off", "on")) for name in names), 1)
+            book = book_of(house, *[f"{rule} 0 0 | hour 0 | - | " + ", ".join(f"{name} {value}" for name in names)
+                                    for rule, value in (("p", "on"), ("q", "off"))])
+            self.assert_log(book, plain(house, ((),)), "0 | none | clash " + " ".join(names))
+
     def test_names_that_are_words_of_logs(self):
         book = book_of(ODD, "by 0 0 | by is free | - | clash none, hand clash", "none 0 0 | clash is none | - | free free")
         row = (("free", "fail"), (("fail", "hand"),), ("hand",), ("free",))
